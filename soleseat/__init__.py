@@ -1,0 +1,1 @@
+"""Soleseat: one at a time by letters alone."""

@@ -1,0 +1,1 @@
+"""Letters, the post, machines and halls."""

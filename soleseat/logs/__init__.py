@@ -1,0 +1,1 @@
+"""Logs, and runs of them."""

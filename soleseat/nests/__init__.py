@@ -1,0 +1,1 @@
+"""Halls of halls."""

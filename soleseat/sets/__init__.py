@@ -1,0 +1,1 @@
+"""Families of sets."""

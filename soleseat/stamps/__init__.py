@@ -1,0 +1,1 @@
+"""Stamped asks."""

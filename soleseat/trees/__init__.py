@@ -1,0 +1,1 @@
+"""A key on a tree."""

@@ -1,0 +1,1 @@
+"""Votes by sets."""
