@@ -11,23 +11,48 @@ DEFS = {
     "logs.rows": {"is_row": "thing, *, seats=60", "seat_of": "row", "row_text": "row", "read_row": "line"},
     "logs.judge": {"judge": "log, *, seats=60, crowd=False"},
     "logs.runs": {"read_run": "text"},
+    "logs.known": {"past": "run, j", "known": "run, i, j", "chain": "run, i, j", "marks": "run", "closed": "run, cut"},
+    "logs.weave": {"woven": "run, order", "laid_ahead": "run, cut"},
+    "logs.goings": {"asks": "run", "goings": "run", "sole": "run", "passed": "run"},
+    "stamps.halls": {"stampers": "seats, *, counts=()", "stamp_hall": "seats, *, counts=(), falls=False"},
+    "stamps.papers": {"cases": "stampers, letters, *, fallen=()", "coming": "stampers, *, fallen=()"},
+    "trees.papers": {"key_place": "machines, letters", "wish_at": "twigs, letters, seat",
+                     "line_of": "turners, letters", "walk_up": "turners, letters, seat"},
+    "sets.forms": {"fault": "seats, sets", "looked": "seats, sets", "least_ones": "seats, sets"},
+    "votes.halls": {"vote_hall": "seats, sets, *, firsts=None, counts=(), falls=False",
+                    "break_run": "seats, sets, *, firsts=None"},
+    "calls.callers": {"callers": "seats, *, first=0"},
+    "calls.halls": {"call_hall": "seats, *, first=0, falls=False"},
+    "calls.papers": {"where_key": "callers, letters, *, fallen=()", "coming": "callers, letters, *, fallen=()"},
 }
+MACHINE = {"ask": "", "leave": "", "hear": "sender, letter", "gone": "seat"}
 CLASSES = {
     "base.post": {"Post": ("seats", {
         "put": "a, b, letter", "carry": "a, b", "fall": "seat", "letters": "a, b", "roads": "", "under_way": "",
         "__len__": "", "__eq__": "other", "__str__": ""})},
     "base.seats": {
-        "Seat": ("me", {"ask": "", "leave": "", "hear": "sender, letter", "gone": "seat"}),
-        "Puppet": ("me, seats, plays", {
-            "unplayed": "", "ask": "", "leave": "", "hear": "sender, letter", "gone": "seat"})},
+        "Seat": ("me", MACHINE),
+        "Puppet": ("me, seats, plays", {"unplayed": ""} | MACHINE)},
     "base.hall": {"Hall": ("machines, *, falls=False, askers=None", {
         "ask": "seat", "leave": "seat", "carry": "a, b", "fall": "seat", "run": "deeds", "calm": "*, most=10000",
         "runs": "", "rows": "", "state_of": "seat", "within": "", "waiters": "", "letters": "a, b", "roads": "",
         "under_way": "", "still": "", "machine_of": "seat", "__len__": "", "__str__": ""})},
     "logs.runs": {"Run": ("log, *, seats=60", {
         "rows": "", "straight": "k", "__len__": "", "__eq__": "other", "__str__": ""})},
+    "logs.cuts": {"Cut": ("rows=()", {
+        "rows": "", "has": "row", "joined": "other", "shared": "other", "__len__": "", "__eq__": "other",
+        "__str__": ""})},
+    "stamps.stamper": {"Stamper": ("me, seats, *, count=0", {"awaits": "", "holds": "", "told_gone": ""} | MACHINE)},
+    "votes.desk": {"Desk": ("", {
+        "take_ask": "stamp", "take_given": "stamp", "take_done": "stamp", "take_gone": "seat", "__len__": ""})},
+    "votes.voter": {"Voter": ("me, sets, *, first=None, count=0", {"free_set": ""} | MACHINE)},
+    "calls.callers": {"Caller": ("me, seats, *, first=0", {
+        "bears": "", "roster": "", "numbers": "", "awaits": ""} | MACHINE)},
+    "trees.twigs": {"KeySeat": ("me", {"has_key": ""}), "Twig": ("me, toward", {"has_key": ""} | MACHINE)},
+    "trees.turners": {"Turner": ("me, up", {"has_key": ""} | MACHINE)},
 }
-VALUES = {"base.post": {"SEATS": 60}, "base.hall": {"CALM": 10000}, "logs.rows": {"SEATS": 60}}
+VALUES = {"base.post": {"SEATS": 60}, "base.hall": {"CALM": 10000}, "logs.rows": {"SEATS": 60},
+          "stamps.stamper": {"FIRST": 0}, "sets.forms": {"SETS": 200, "FEW": 9}, "calls.callers": {"FIRST": 0}}
 
 
 def arguments(told):

@@ -13,12 +13,17 @@ def look_at_seat(seat, seats):
         raise NoSeat(seat)
 
 
+def look_at_many(seats):
+    """Refuse what is no number of seats from 1 to SEATS, of anything."""
+    if not is_below(seats, SEATS + 1) or seats == 0:
+        raise NoSeat(seats)
+
+
 class Post:
     """What is under way on the roads of some seats."""
 
     def __init__(self, seats):
-        if not is_below(seats, SEATS + 1) or seats == 0:
-            raise NoSeat(seats)
+        look_at_many(seats)
         self.seats = seats
         self._fallen = [False] * seats
         # For each seat a dict: to whom it has something under way, and what, in order.
