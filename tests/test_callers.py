@@ -167,6 +167,11 @@ class HandingOn(unittest.TestCase):
         caller.hear(0, ("key", 3, served(5, 3, 0, 4), ()))
         self.assertEqual(caller.leave(), [(1, ("key", 3, served(5, 3, 1, 4), ()))])
 
+    def test_itself_first(self):
+        caller = self.with_key(2, {5: 1}, (2, 4))
+        self.assertEqual(caller.leave(), [])
+        self.assertEqual((caller.bears(), caller.state), ((3, served(0, 0, 1, 0, 0, 0), (4, 5)), "in"))
+
     def test_nobody(self):
         caller = self.with_key(2, {}, ())
         self.assertEqual(caller.leave(), [])
