@@ -59,6 +59,9 @@ class Story:
         self.words = []
         self.left = [0] * self.seats
         self.looked = 0
+        # Who bore a key behind the deed ahead, and by round who made one.
+        self.bore = [machine.bears() is not None for machine in self.machines]
+        self.made = []
         Drive(self.hall, seed, falls=chance.randrange(self.seats + 2) if falls else 0,
               asks=chance.randrange(2, 16), look=self.look).go()
         self.log = self.hall.rows()
@@ -74,6 +77,7 @@ class Story:
                 self.left[row[1]] += 1
             if row[0] == "came" and row[3][0] == "key" and row[3][1] >= self.machines[row[2]].round:
                 assert ("in", row[2]) == hall.rows()[-1]
+        self.note_made(hall.rows()[self.looked:])
         self.looked = len(hall.rows())
         keys = [("has", seat) for seat in living if self.machines[seat].bears()]
         bears = [self.machines[seat].bears() for seat in living if self.machines[seat].bears()]
@@ -93,6 +97,16 @@ class Story:
             self.look_without_key(hall, living, fallen, told)
         else:
             assert told == ("nobody",)
+
+    def note_made(self, rows):
+        """Note a key that came to be by a pledge or an end mark."""
+        at = seat_of(rows[0])
+        bears = self.machines[at].bears() is not None
+        puts = [row for row in rows if row[0] == "put" and row[3][0] == "key"]
+        if not self.bore[at] and (bears or puts) and (rows[0][0] == "gone" or rows[0][3][0] == "pledge"):
+            of_round = puts[0][3][1] if puts else self.machines[at].bears()[0]
+            self.made.append((of_round, at))
+        self.bore[at] = bears
 
     def look_without_key(self, hall, living, fallen, told):
         word, seat, row = told
@@ -145,6 +159,26 @@ class Runs(unittest.TestCase):
         for story in FALLING:
             begun = story.rounds()
             self.assertEqual(begun, sorted(set(begun)))
+
+    def test_keys_are_made_once_and_by_who_began(self):
+        many = 0
+        for story in FALLING:
+            rounds = [of_round for of_round, _ in story.made]
+            self.assertEqual(rounds, sorted(set(rounds)))
+            for of_round, seat in story.made:
+                begun = [row for row in story.log if row[0] == "put" and row[3][:2] == ("round", of_round)]
+                self.assertTrue(all(row[1] == seat for row in begun))
+                # One that is alone begins a round without a letter.
+                self.assertTrue(begun or self.is_alone(story, seat))
+                pledges = [row[3] for row in story.log
+                           if row[0] == "came" and row[2] == seat and row[3][:2] == ("pledge", of_round)]
+                self.assertEqual([pledge[4] for pledge in pledges], [0] * len(pledges))
+                many += 1
+        self.assertGreater(many, 50)
+        self.assertTrue(all(story.made == [] for story in QUIET))
+
+    def is_alone(self, story, seat):
+        return story.machines[seat].roster() == [seat]
 
     def test_letters_without_falls(self):
         for story in QUIET:
