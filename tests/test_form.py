@@ -14,7 +14,8 @@ CALLED = {"len", "range", "enumerate", "zip", "min", "max", "sum", "abs", "sorte
           "list", "tuple", "dict", "set", "isinstance", "ord", "repr", "any", "all", "divmod", "super"}
 METHODS = {"append", "clear", "copy", "count", "endswith", "extend", "find", "get", "index", "insert", "isdigit",
            "items", "join", "keys", "lower", "partition", "pop", "remove", "replace", "reverse", "rstrip", "setdefault",
-           "split", "startswith", "strip", "update", "values", "removeprefix", "removesuffix", "add", "discard"}
+           "split", "startswith", "strip", "update", "values", "removeprefix", "removesuffix", "add", "discard",
+           "bit_length"}
 ERRORS = {"ValueError", "LookupError", "ArithmeticError"}
 DOUBLE = {"__init__", "__eq__", "__len__", "__str__", "__repr__"}
 BARRED = {"type", "typing", "enum", "Enum", "Flag", "Generic", "Protocol", "ABC", "namedtuple", "NamedTuple"}

@@ -18,13 +18,28 @@ DEFS = {
     "stamps.papers": {"cases": "stampers, letters, *, fallen=()", "coming": "stampers, *, fallen=()"},
     "trees.papers": {"key_place": "machines, letters", "wish_at": "twigs, letters, seat",
                      "line_of": "turners, letters", "walk_up": "turners, letters, seat"},
+    "trees.twigs": {"twigs": "tree, *, key=0", "twig_hall": "tree, *, key=0, falls=False"},
+    "trees.turners": {"turners": "tree, *, key=0", "turner_hall": "tree, *, key=0, falls=False"},
     "sets.forms": {"fault": "seats, sets", "looked": "seats, sets", "least_ones": "seats, sets"},
+    "sets.planes": {"seats_of": "p", "lies": "p, seat, number", "set_of": "p, number", "shared": "p, one, other",
+                    "holding": "p, one, other", "free": "p, fallen", "plane": "p"},
+    "sets.patterns": {"grid": "rows, columns", "wall_sets": "widths, *, most=200"},
+    "sets.joins": {"joined": "seats, sets, *, at, by_seats, by"},
+    "sets.meeting": {"meeting": "seats, sets"},
+    "sets.better": {"lacking": "seats, sets", "bettered": "seats, sets"},
+    "sets.bars": {"barred": "seats, sets, fallen", "least_bar": "seats, sets"},
     "votes.halls": {"vote_hall": "seats, sets, *, firsts=None, counts=(), falls=False",
                     "break_run": "seats, sets, *, firsts=None"},
     "calls.callers": {"callers": "seats, *, first=0"},
     "calls.halls": {"call_hall": "seats, *, first=0, falls=False"},
     "calls.papers": {"where_key": "callers, letters, *, fallen=()", "coming": "callers, letters, *, fallen=()"},
+    "nests.plans": {"places": "plan"},
+    "nests.texts": {"read_plan": "text"},
+    "nests.nest": {"branch_at": "plan, path", "branch_paths": "plan", "nest_hall": "plan"},
+    "nests.within": {"hall_log": "plan, log, path"},
+    "nests.tolls": {"toll": "plan, goers"},
 }
+PLAN = {"words": "", "deep": "", "halls": "", "__len__": "", "__eq__": "other", "__str__": ""}
 MACHINE = {"ask": "", "leave": "", "hear": "sender, letter", "gone": "seat"}
 CLASSES = {
     "base.post": {"Post": ("seats", {
@@ -50,9 +65,16 @@ CLASSES = {
         "bears": "", "roster": "", "numbers": "", "awaits": ""} | MACHINE)},
     "trees.twigs": {"KeySeat": ("me", {"has_key": ""}), "Twig": ("me, toward", {"has_key": ""} | MACHINE)},
     "trees.turners": {"Turner": ("me, up", {"has_key": ""} | MACHINE)},
+    "trees.tree": {"Tree": ("ups", {
+        "told_ups": "", "beside": "seat", "way": "a, b", "apart": "a, b", "second": "a, b", "meeting": "a, b, c",
+        "farthest": "", "hung": "seat", "__len__": "", "__eq__": "other", "__str__": ""})},
+    "nests.plans": {"Leaf": ("", PLAN), "Branch": ("manner, parts, *, above=(), sets=()", PLAN)},
+    "nests.porters": {"Member": ("me, inner, mates, porter", MACHINE), "Porter": ("me, inner, mates, porter", MACHINE)},
 }
 VALUES = {"base.post": {"SEATS": 60}, "base.hall": {"CALM": 10000}, "logs.rows": {"SEATS": 60},
-          "stamps.stamper": {"FIRST": 0}, "sets.forms": {"SETS": 200, "FEW": 9}, "calls.callers": {"FIRST": 0}}
+          "stamps.stamper": {"FIRST": 0}, "trees.tree": {"FIRST": 0}, "sets.forms": {"SETS": 200, "FEW": 9},
+          "calls.callers": {"FIRST": 0},
+          "nests.plans": {"MANNERS": ("stamps", "tree", "turning", "votes", "calls"), "DEEPEST": 6, "MOST": 60}}
 
 
 def arguments(told):

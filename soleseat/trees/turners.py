@@ -1,5 +1,7 @@
 """Machines that let the key go along a tree that turns with each wish."""
 
+from soleseat.base.hall import Hall
+from soleseat.trees.tree import FIRST
 from soleseat.trees.twigs import KeySeat
 
 
@@ -58,3 +60,13 @@ class Turner(KeySeat):
             return [(who, ("key",))]
         self.behind = who
         return []
+
+
+def turners(tree, *, key=FIRST):
+    """A turner for each seat of a tree, the key at one of them and the ups leading there."""
+    return [Turner(seat, up) for seat, up in enumerate(tree.hung(key).told_ups())]
+
+
+def turner_hall(tree, *, key=FIRST, falls=False):
+    """A hall of turners."""
+    return Hall(turners(tree, key=key), falls=falls)

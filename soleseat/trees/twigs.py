@@ -1,6 +1,9 @@
 """Machines that let the key go along a standing tree."""
 
+from soleseat.base.hall import Hall
+from soleseat.base.post import look_at_seat
 from soleseat.base.seats import Seat
+from soleseat.trees.tree import FIRST
 
 
 class KeySeat(Seat):
@@ -63,3 +66,14 @@ class Twig(KeySeat):
             self.sent = True
             sends.append((self.toward, ("wish",)))
         return sends
+
+
+def twigs(tree, *, key=FIRST):
+    """A twig for each seat of a tree, the key at one of them."""
+    look_at_seat(key, len(tree))
+    return [Twig(seat, tree.second(seat, key)) for seat in range(len(tree))]
+
+
+def twig_hall(tree, *, key=FIRST, falls=False):
+    """A hall of twigs."""
+    return Hall(twigs(tree, key=key), falls=falls)
