@@ -6,13 +6,14 @@ import random
 class Drive:
     """A hall, and chance deeds that are never refused."""
 
-    def __init__(self, hall, seed, *, falls=0, asks=8, look=None):
+    def __init__(self, hall, seed, *, falls=0, asks=8, look=None, askers=60):
         self.hall = hall
         self.chance = random.Random(seed)
         # How many may still fall, and how many asks may still come.
         self.falls = falls
         self.asks = asks
         self.look = look
+        self.askers = askers
         # Some roads are slow, so that letters of other roads come ahead of theirs.
         self.slow = {(a, b) for a in range(hall.seats) for b in range(hall.seats) if self.chance.random() < 0.3}
 
@@ -22,7 +23,7 @@ class Drive:
     def some_deed(self):
         """A deed that may be done now, or None."""
         hall, chance = self.hall, self.chance
-        out = [seat for seat in self.living() if hall.state_of(seat) == "out"]
+        out = [seat for seat in self.living() if hall.state_of(seat) == "out" and seat < self.askers]
         deeds = []
         if self.asks > 0 and out:
             deeds += [("ask", chance.choice(out))] * 2

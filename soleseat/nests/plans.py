@@ -99,7 +99,7 @@ def _branch_fault(manner, parts, above, sets):
         return "manner"
     if not isinstance(parts, (list, tuple)) or len(parts) == 0:
         return "parts"
-    if not all([isinstance(part, (Leaf, Branch)) for part in parts]):
+    if not all([isinstance(part, Leaf) or isinstance(part, Branch) for part in parts]):
         return "parts"
     if sum([len(part) + part.halls() for part in parts]) > MOST:
         return "many"

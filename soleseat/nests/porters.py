@@ -106,8 +106,8 @@ class Porter(Seat):
         return sends + self._serve(sender)
 
     def _serve(self, sender):
-        self.serves = sender
         sends = sent_by(self.inner.ask(), self._mates)
+        self.serves = sender
         return sends + self._come_in("out")
 
     def _come_in(self, was):

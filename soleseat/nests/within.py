@@ -18,7 +18,7 @@ class Within:
         if row[0] == "put":
             return self._put(row[1], row[2], row[3])
         if row[0] == "came":
-            return self._came(row[1], row[2], row[3])
+            return self._carried(row[1], row[2], row[3])
         if row[1] not in self._parts or (row[0] == "in" and self._porter is not None):
             return []
         return [(row[0], self._parts[row[1]])]
@@ -33,26 +33,26 @@ class Within:
             return [("in", self._parts[a])]
         return []
 
-    def _came(self, a, b, letter):
+    def _carried(self, a, b, letter):
         if b not in self._parts:
             return []
         part = self._parts[b]
         if a in self._parts:
             return [("came", self._parts[a], part, letter)]
         if letter == PLEASE:
-            return self._came_please(b, part)
+            return self._hear_please(b, part)
         if letter == DONE:
-            return self._came_done(b, part)
+            return self._hear_done(b, part)
         return []
 
-    def _came_please(self, porter, part):
+    def _hear_please(self, porter, part):
         if porter in self._waits:
             self._waits[porter] = True
             return []
         self._waits[porter] = False
         return [("ask", part)]
 
-    def _came_done(self, porter, part):
+    def _hear_done(self, porter, part):
         if self._waits[porter]:
             self._waits[porter] = False
             return [("out", part), ("ask", part)]

@@ -24,7 +24,7 @@ def wall_sets(widths, *, most=SETS):
         raise NoShape(0)
     if sum(widths) > SEATS:
         raise TooMany("seats")
-    if _many_wall_sets(widths) > most:
+    if _how_many(widths) > most:
         raise TooMany("sets")
     sets = []
     # From the last row up: the ways to take one seat of each row below, rising.
@@ -43,7 +43,7 @@ def _cross(rows, columns, seat):
                   if other // columns == seat // columns or other % columns == seat % columns])
 
 
-def _many_wall_sets(widths):
+def _how_many(widths):
     many = 0
     ways = 1
     for width in reversed(widths):
