@@ -221,6 +221,12 @@ class Porters(unittest.TestCase):
             self.assertEqual(porter.hear(4, DONE), done + [(2, ("g",)), (7, ("a",)), other])
             self.assertEqual((porter.serves, state_of(porter)), (5, ("out", "in")))
 
+    def test_mates_handed_in(self):
+        mates = [7, 9, 2]
+        porter = Porter(9, Inner(ask=([(0, ("a",))], "asking")), mates, 11)
+        mates[0] = 5
+        self.assertEqual(porter.hear(4, PLEASE), [(7, ("a",))])
+
     def test_always_out(self):
         porter = Porter(9, Inner(), [7, 9, 2], None)
         for deed in (porter.ask, porter.leave, lambda: porter.gone(4)):

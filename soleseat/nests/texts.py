@@ -15,7 +15,6 @@ class Opened:
         self.manner = None
         # Above or the sets, as lists of numbers with a stroke between each two.
         self.heads = [[]]
-        self.bare = True
         self.parts = None
 
     def takes(self, word):
@@ -32,19 +31,17 @@ class Opened:
             self.manner = word
         elif word == ":":
             self.parts = []
+        elif word == "|":
+            self.heads.append([])
         else:
-            self.bare = False
-            if word == "|":
-                self.heads.append([])
-            else:
-                self.heads[-1].append(int(word))
+            self.heads[-1].append(int(word))
 
     def made(self):
         """The branch; refused as Branch refuses."""
         if self.manner != "votes":
             return Branch(self.manner, self.parts, above=self.heads[0])
-        sets = [] if self.bare else [tuple(one) for one in self.heads]
-        return Branch(self.manner, self.parts, sets=sets)
+        # Without any word there are no sets, here an empty one: the branch is refused with the same word.
+        return Branch(self.manner, self.parts, sets=[tuple(one) for one in self.heads])
 
 
 def read_plan(text):

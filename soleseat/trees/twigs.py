@@ -1,7 +1,6 @@
 """Machines that let the key go along a standing tree."""
 
 from soleseat.base.hall import Hall
-from soleseat.base.post import look_at_seat
 from soleseat.base.seats import Seat
 from soleseat.trees.tree import FIRST
 
@@ -70,7 +69,6 @@ class Twig(KeySeat):
 
 def twigs(tree, *, key=FIRST):
     """A twig for each seat of a tree, the key at one of them."""
-    look_at_seat(key, len(tree))
     return [Twig(seat, tree.second(seat, key)) for seat in range(len(tree))]
 
 
